@@ -9,6 +9,7 @@ import (
 
 	"mutoscope/api"
 	"mutoscope/coder"
+	"mutoscope/noise"
 )
 
 // written is what an out has behind one call.
@@ -77,17 +78,6 @@ func signedEdges() []int {
 	l := []int{0, 1, -1, 63, -63, 64, -64, 65, -65, 8191, -8192, 8192, -8193, math.MaxInt, math.MinInt, math.MinInt + 1}
 	for _, v := range edges() {
 		l = append(l, int(v), -int(v))
-	}
-	return l
-}
-
-// noise is n bytes without a pattern, the same ones in each run.
-func noise(n int) []byte {
-	l := make([]byte, n)
-	r := uint32(n)*2654435761 + 1
-	for i := range l {
-		r = r*1664525 + 1013904223
-		l[i] = byte(r >> 24)
 	}
 	return l
 }
@@ -241,7 +231,7 @@ func TestBoolRawText(t *testing.T) {
 	}
 	same(t, "Raw", written(func(o *coder.Out) { o.Raw(all...) }), all)
 	for _, n := range []int{0, 1, 2, 127, 128, 300, 16383, 16384} {
-		s := string(noise(n))
+		s := string(noise.Bytes(n))
 		want := append(plain(big.NewInt(int64(n))), s...)
 		same(t, "Text", written(func(o *coder.Out) { o.Text(s) }), want)
 	}
@@ -250,7 +240,7 @@ func TestBoolRawText(t *testing.T) {
 
 // P2.1: one call of many numbers writes what many calls of one write.
 func TestManyInOneCall(t *testing.T) {
-	numbers, signed, raw := edges(), signedEdges(), noise(5000)
+	numbers, signed, raw := edges(), signedEdges(), noise.Bytes(5000)
 	bools := make([]bool, 999)
 	for k := range bools {
 		bools[k] = raw[k]%2 == 0
@@ -386,7 +376,7 @@ func TestUintOfEachLength(t *testing.T) {
 
 // P2.2: rows without a pattern.
 func TestUintOfNoise(t *testing.T) {
-	b := noise(20000)
+	b := noise.Bytes(20000)
 	for at := range b {
 		row := bytes.Clone(b[at:min(at+12, len(b))])
 		holds(t, row)
@@ -501,7 +491,7 @@ func TestBool(t *testing.T) {
 // P2.2: Raw of as many bytes as there are, of fewer, of more, and of an n below 0.
 func TestRaw(t *testing.T) {
 	for size := range 6 {
-		b := noise(size)
+		b := noise.Bytes(size)
 		for _, n := range []int{math.MinInt, -2, -1, 0, 1, 2, 3, 4, 5, 6, 7, 1 << 31, math.MaxInt} {
 			i := coder.NewIn(b)
 			x := i.Raw(n)
@@ -594,7 +584,7 @@ func TestLeftErrEnd(t *testing.T) {
 		i.Uint()
 		silent(t, "an in of nothing", i, api.ErrShort)
 	}
-	b := noise(40)
+	b := noise.Bytes(40)
 	i := coder.NewIn(b)
 	for k := range b {
 		stands(t, "ahead of a byte", i, len(b)-k, api.OK)
@@ -634,7 +624,7 @@ func noughtTo(n int) []byte {
 
 // The rule of memory: what is handed to an out is neither changed nor kept.
 func TestOutArguments(t *testing.T) {
-	raw, numbers, signed, bools := noise(40), edges()[:20], signedEdges()[:20], []bool{true, false, true, true}
+	raw, numbers, signed, bools := noise.Bytes(40), edges()[:20], signedEdges()[:20], []bool{true, false, true, true}
 	wasRaw := bytes.Clone(raw)
 	wasNumbers := append([]uint64(nil), numbers...)
 	wasSigned := append([]int(nil), signed...)
@@ -663,7 +653,7 @@ func TestOutArguments(t *testing.T) {
 
 // The rule of memory: an in neither changes nor keeps its bytes, and what it tells is new.
 func TestInMemory(t *testing.T) {
-	room := append(noise(20), noise(30)...)
+	room := append(noise.Bytes(20), noise.Bytes(30)...)
 	was := bytes.Clone(room)
 	i := coder.NewIn(room[:20])
 	first := i.Raw(5)

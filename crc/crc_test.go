@@ -5,6 +5,7 @@ import (
 	"testing"
 
 	"mutoscope/crc"
+	"mutoscope/noise"
 )
 
 // defined is the sum as the chapter's words define it, bit by bit.
@@ -26,17 +27,6 @@ func further(sum uint32, b []byte) uint32 {
 		}
 	}
 	return r ^ 0xffffffff
-}
-
-// noise is n bytes without a pattern, the same ones in each run.
-func noise(n int) []byte {
-	l := make([]byte, n)
-	r := uint32(n)*2654435761 + 1
-	for i := range l {
-		r = r*1664525 + 1013904223
-		l[i] = byte(r >> 24)
-	}
-	return l
 }
 
 // P1.1: the chapter's examples.
@@ -79,7 +69,7 @@ func TestLengths(t *testing.T) {
 		lengths = append(lengths, n)
 	}
 	for _, n := range lengths {
-		b := noise(n)
+		b := noise.Bytes(n)
 		if got, want := crc.Sum(b), defined(b); got != want {
 			t.Errorf("Sum of %d bytes: %08x, not %08x", n, got, want)
 		}
@@ -88,7 +78,7 @@ func TestLengths(t *testing.T) {
 
 // P1.1: Next, byte by byte, tells each beginning's sum.
 func TestNextByteByByte(t *testing.T) {
-	b := append([]byte("123456789"), noise(200)...)
+	b := append([]byte("123456789"), noise.Bytes(200)...)
 	sum := crc.Sum()
 	for i, x := range b {
 		sum = crc.Next(sum, x)
@@ -141,7 +131,7 @@ func TestPartedInEachWay(t *testing.T) {
 
 // P1.2: a long row, parted at each place, and into parts of each size.
 func TestPartsOfEachSize(t *testing.T) {
-	b := noise(1000)
+	b := noise.Bytes(1000)
 	want := defined(b)
 	for at := range len(b) + 1 {
 		if x := crc.Sum(b[:at], b[at:]); x != want {
@@ -183,7 +173,7 @@ func unlike(t *testing.T, b []byte, pattern uint32, width int) {
 
 // P1.2: each difference of up to ten bits in a row, wherever it stands.
 func TestUnlikeInFewBits(t *testing.T) {
-	for _, b := range [][]byte{make([]byte, 7), []byte("1234567"), noise(7)} {
+	for _, b := range [][]byte{make([]byte, 7), []byte("1234567"), noise.Bytes(7)} {
 		for pattern := uint32(1); pattern < 1<<10; pattern++ {
 			width := 0
 			for pattern>>width != 0 {
@@ -205,7 +195,7 @@ func TestUnlikeInUpTo32Bits(t *testing.T) {
 			r = r*1664525 + 1013904223
 			patterns = append(patterns, ends|full&(r^r>>16))
 		}
-		for _, b := range [][]byte{make([]byte, 4), []byte("123456789"), noise(21)} {
+		for _, b := range [][]byte{make([]byte, 4), []byte("123456789"), noise.Bytes(21)} {
 			for _, pattern := range patterns {
 				unlike(t, b, pattern, width)
 			}
@@ -216,7 +206,7 @@ func TestUnlikeInUpTo32Bits(t *testing.T) {
 // P1.2: the numbers that the sum is made with, as differences: a sum that lost a bit would be the same.
 func TestUnlikeInMakingNumbers(t *testing.T) {
 	for _, pattern := range []uint32{0xedb88320, 0xdb710641, 0x04c11db7, 0x82608edb, 0xffffffff, 0x80000001} {
-		for _, b := range [][]byte{make([]byte, 4), make([]byte, 12), noise(12)} {
+		for _, b := range [][]byte{make([]byte, 4), make([]byte, 12), noise.Bytes(12)} {
 			unlike(t, b, pattern, 32)
 		}
 	}
@@ -225,7 +215,7 @@ func TestUnlikeInMakingNumbers(t *testing.T) {
 // The rule of memory: what is handed in isn't changed, its spare room neither, and isn't kept.
 func TestPartsStay(t *testing.T) {
 	for n := range 40 {
-		room := noise(n + 16)
+		room := noise.Bytes(n + 16)
 		was := bytes.Clone(room)
 		part := room[:n]
 		parts := [][]byte{part, part, nil}[:2]

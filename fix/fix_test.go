@@ -7,6 +7,7 @@ import (
 
 	"mutoscope/api"
 	"mutoscope/fix"
+	"mutoscope/noise"
 )
 
 // The calls that the chapter lists, by their signatures.
@@ -113,7 +114,7 @@ func TestRoundOfGreat(t *testing.T) {
 			round(t, n, d)
 		}
 	}
-	next := noise(1)
+	next := noise.Numbers(1)
 	for range 20000 {
 		d := 1 + int64(next()>>2>>(next()%62))
 		round(t, within(next, most), min(d, most))
@@ -131,7 +132,7 @@ func TestMul(t *testing.T) {
 			t.Errorf("Mul(%d, 1.0): %d", a, x)
 		}
 	}
-	next := noise(2)
+	next := noise.Numbers(2)
 	for range 20000 {
 		mul(t, within(next, maxFix), within(next, maxFix))
 	}
@@ -159,7 +160,7 @@ func TestFloorAndCeil(t *testing.T) {
 	for _, a := range rightOnes() {
 		floorAndCeil(t, a)
 	}
-	next := noise(3)
+	next := noise.Numbers(3)
 	for range 20000 {
 		floorAndCeil(t, within(next, maxFix))
 	}
@@ -182,7 +183,7 @@ func TestDot(t *testing.T) {
 			dot(t, a, b, b)
 		}
 	}
-	next := noise(4)
+	next := noise.Numbers(4)
 	for k := range 40000 {
 		l := make([]int64, k%10)
 		for place := range l {

@@ -74,17 +74,6 @@ func plainDot(l []int64) (int64, bool) {
 	return 0, false
 }
 
-// noise tells numbers without a pattern, the same ones in each run.
-func noise(seed uint64) func() uint64 {
-	r := seed*0x9e3779b97f4a7c15 + 1
-	return func() uint64 {
-		r = r*6364136223846793005 + 1442695040888963407
-		x := r ^ r>>33
-		x *= 0xff51afd7ed558ccd
-		return x ^ x>>29
-	}
-}
-
 // within is a number from -most to most, as often a small as a great one.
 func within(next func() uint64, most int64) int64 {
 	x := int64(next()>>1>>(next()%63)) % (most + 1)

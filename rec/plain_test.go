@@ -6,6 +6,7 @@ import (
 	"testing"
 
 	"mutoscope/api"
+	"mutoscope/noise"
 	"mutoscope/rec"
 )
 
@@ -167,17 +168,6 @@ func holds(t *testing.T, b []byte) api.Errno {
 	return e
 }
 
-// noise is n bytes without a pattern, the same ones in each run.
-func noise(n int) []byte {
-	l := make([]byte, n)
-	r := uint32(n)*2654435761 + 1
-	for i := range l {
-		r = r*1664525 + 1013904223
-		l[i] = byte(r >> 24)
-	}
-	return l
-}
-
 // ordinary is some records of few bytes: kinds at their bounds, no bytes, nil
 // and empty, and as many as their number takes a byte more for.
 func ordinary() []rec.Rec {
@@ -186,9 +176,9 @@ func ordinary() []rec.Rec {
 		{},
 		{Kind: 255, Data: []byte{}},
 		{Kind: 0, Data: []byte{0}},
-		{Kind: 128, Data: noise(2)},
-		{Kind: 3, Data: noise(127)},
-		{Kind: 127, Data: noise(128)},
+		{Kind: 128, Data: noise.Bytes(2)},
+		{Kind: 3, Data: noise.Bytes(127)},
+		{Kind: 127, Data: noise.Bytes(128)},
 		{Kind: 254, Data: make([]byte, 40)},
 		{Kind: 6, Data: bytes.Repeat([]byte{255}, 200)},
 	}

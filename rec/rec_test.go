@@ -7,6 +7,7 @@ import (
 	"testing"
 
 	"mutoscope/api"
+	"mutoscope/noise"
 	"mutoscope/rec"
 )
 
@@ -47,7 +48,7 @@ func TestBytesOfNoneOneMany(t *testing.T) {
 	}
 	var many []rec.Rec
 	for k := range 5000 {
-		many = append(many, rec.Rec{Kind: k % 256, Data: noise(k % 300)})
+		many = append(many, rec.Rec{Kind: k % 256, Data: noise.Bytes(k % 300)})
 	}
 	all(t, made(t, many...), many, len(plainRow(many...)), api.OK)
 }
@@ -86,7 +87,7 @@ func TestKinds(t *testing.T) {
 // P4.1, P4.2: Data of lengths at which something changes, MaxRecord among them; one byte more is refused.
 func TestLengths(t *testing.T) {
 	for _, n := range []int{0, 1, 2, 127, 128, 129, 255, 256, 16383, 16384, 16385, 65536, api.MaxRecord - 1, api.MaxRecord} {
-		r := rec.Rec{Kind: n % 256, Data: noise(n)}
+		r := rec.Rec{Kind: n % 256, Data: noise.Bytes(n)}
 		b := made(t, r)
 		next(t, b, r, len(b), api.OK)
 		next(t, b[:len(b)-1], rec.Rec{}, 0, api.ErrShort)
@@ -175,7 +176,7 @@ func TestEqual(t *testing.T) {
 
 // P4.2: of a record's bytes that end at each place within it.
 func TestCutAtEachPlace(t *testing.T) {
-	for _, r := range append(ordinary(), rec.Rec{Kind: 9, Data: noise(16384)}) {
+	for _, r := range append(ordinary(), rec.Rec{Kind: 9, Data: noise.Bytes(16384)}) {
 		b := made(t, r)
 		for k := range b {
 			next(t, b[:k], rec.Rec{}, 0, api.ErrShort)
@@ -291,7 +292,7 @@ func TestEachBitAltered(t *testing.T) {
 	for _, r := range ordinary() {
 		one := made(t, r)
 		number := len(plainNumber(len(r.Data)))
-		for _, b := range [][]byte{one, made(t, r, rec.Rec{Kind: 4, Data: []byte("behind")}), made(t, r, rec.Rec{Data: noise(500)})} {
+		for _, b := range [][]byte{one, made(t, r, rec.Rec{Kind: 4, Data: []byte("behind")}), made(t, r, rec.Rec{Data: noise.Bytes(500)})} {
 			for bit := range 8 * len(one) {
 				b[bit/8] ^= 1 << (bit % 8)
 				e := holds(t, b)
@@ -307,7 +308,7 @@ func TestEachBitAltered(t *testing.T) {
 
 // P4.2: each bit altered of a row of records: those ahead of it are told, and none from it on.
 func TestEachBitOfARowAltered(t *testing.T) {
-	l := []rec.Rec{{Kind: 1, Data: []byte("a")}, {Kind: 2}, {Kind: 3, Data: []byte("ccc")}, {Kind: 255, Data: noise(30)}}
+	l := []rec.Rec{{Kind: 1, Data: []byte("a")}, {Kind: 2}, {Kind: 3, Data: []byte("ccc")}, {Kind: 255, Data: noise.Bytes(30)}}
 	b := made(t, l...)
 	at, from := 0, 0
 	for bit := range 8 * len(b) {
@@ -349,7 +350,7 @@ func TestBytesThatEndInASum(t *testing.T) {
 		all(t, slices.Concat(head, sum), nil, 0, api.ErrSum)
 	}
 	for n := range 30 {
-		b := sealed(noise(n))
+		b := sealed(noise.Bytes(n))
 		holds(t, b)
 		holds(t, sealed(b))
 		holds(t, slices.Concat(made(t, rec.Rec{Kind: 1}), b))
@@ -363,7 +364,7 @@ func TestBytesThatEndInASum(t *testing.T) {
 
 // P4.2: Next tells a record whatever stands behind it; All goes on to what isn't right there, and tells why.
 func TestWhatStandsBehind(t *testing.T) {
-	short := made(t, rec.Rec{Kind: 1, Data: noise(20)})
+	short := made(t, rec.Rec{Kind: 1, Data: noise.Bytes(20)})
 	altered := slices.Clone(short)
 	altered[5] ^= 64
 	for _, r := range ordinary() {
@@ -402,7 +403,7 @@ func TestRowsOfAnyBytes(t *testing.T) {
 			holds(t, sealed([]byte{byte(x), byte(y)}))
 		}
 	}
-	b := noise(4000)
+	b := noise.Bytes(4000)
 	for at := range b {
 		row := slices.Clone(b[at:min(at+40, len(b))])
 		holds(t, row)

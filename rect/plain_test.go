@@ -159,14 +159,3 @@ func apart(t *testing.T, r, s rect.Rect, l []rect.Rect) {
 		t.Fatalf("%v Less %v: %v", r, s, l)
 	}
 }
-
-// noise tells numbers without a pattern, the same ones in each run.
-func noise(seed uint64) func() uint64 {
-	r := seed*0x9e3779b97f4a7c15 + 1
-	return func() uint64 {
-		r = r*6364136223846793005 + 1442695040888963407
-		x := r ^ r>>33
-		x *= 0xff51afd7ed558ccd
-		return x ^ x>>29
-	}
-}

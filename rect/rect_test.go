@@ -6,6 +6,7 @@ import (
 	"slices"
 	"testing"
 
+	"mutoscope/noise"
 	"mutoscope/rect"
 )
 
@@ -70,7 +71,7 @@ func TestAllPairs(t *testing.T) {
 
 // P6.1: Cut and Join of three, in each order.
 func TestThrees(t *testing.T) {
-	next := noise(1)
+	next := noise.Numbers(1)
 	l := smallOnes(low, high)
 	for range 100000 {
 		r, s, u := l[next()%uint64(len(l))], l[next()%uint64(len(l))], l[next()%uint64(len(l))]
@@ -174,7 +175,7 @@ func TestOfGreatNumbers(t *testing.T) {
 			}
 			return put(r)
 		}
-		next := noise(uint64(great[1]))
+		next := noise.Numbers(uint64(great[1]))
 		l := smallOnes(0, 4)
 		for range 40000 {
 			r, s, u := l[next()%uint64(len(l))], l[next()%uint64(len(l))], l[next()%uint64(len(l))]
@@ -330,7 +331,7 @@ func spoil(l []rect.Rect) {
 // P1: no call panics, or goes on for ever, at numbers of which nothing else is promised.
 func TestAllArguments(t *testing.T) {
 	l := []int{math.MinInt, math.MinInt + 1, -most - 1, -1, 0, 1, most + 1, math.MaxInt - 1, math.MaxInt}
-	next := noise(9)
+	next := noise.Numbers(9)
 	some := func() int { return l[next()%uint64(len(l))] }
 	for range 50000 {
 		r := rect.Rect{X0: some(), Y0: some(), X1: some(), Y1: some()}

@@ -1,0 +1,27 @@
+// Package noise holds numbers and bytes without a pattern, for the tests of all
+// layers: what a seed begins is the same in each run, so that a test that fails
+// fails again.
+package noise
+
+// Numbers tells a row of numbers, one by each call.
+func Numbers(seed uint64) func() uint64 {
+	r := seed*0x9e3779b97f4a7c15 + 1
+	return func() uint64 {
+		r = r*6364136223846793005 + 1442695040888963407
+		// The low bits of r alone come again too soon.
+		x := r ^ r>>33
+		x *= 0xff51afd7ed558ccd
+		return x ^ x>>29
+	}
+}
+
+// Bytes tells n bytes: those of another n begin otherwise.
+func Bytes(n int) []byte {
+	l := make([]byte, max(0, n))
+	r := uint32(n)*2654435761 + 1
+	for i := range l {
+		r = r*1664525 + 1013904223
+		l[i] = byte(r >> 24)
+	}
+	return l
+}
