@@ -8,7 +8,7 @@ import (
 	"mutoscope/rect"
 )
 
-// The plain model's pixels are those of a small square, from low to high: each rectangle of smallOnes lies in it.
+// The plain model's pixels are those of a small square, from low to high: each small rectangle that is asked lies in it.
 const (
 	low  = -2
 	high = 4
@@ -60,21 +60,6 @@ func (p pixels) bound() rect.Rect {
 		b.Y1--
 	}
 	return b
-}
-
-// smallOnes is all rectangles of numbers from least to most, those of turned and of same numbers among them.
-func smallOnes(least, most int) []rect.Rect {
-	var l []rect.Rect
-	for x0 := least; x0 <= most; x0++ {
-		for y0 := least; y0 <= most; y0++ {
-			for x1 := least; x1 <= most; x1++ {
-				for y1 := least; y1 <= most; y1++ {
-					l = append(l, rect.Rect{X0: x0, Y0: y0, X1: x1, Y1: y1})
-				}
-			}
-		}
-	}
-	return l
 }
 
 // parts is what P6.2 says of Less: the rows above, the pixels to the left and to the right of the lines that both have, and the rows below, each as the least rectangle about them.

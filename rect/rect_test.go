@@ -8,6 +8,7 @@ import (
 
 	"mutoscope/noise"
 	"mutoscope/rect"
+	"mutoscope/small"
 )
 
 // The calls that the chapter lists, by their signatures.
@@ -38,7 +39,7 @@ func TestExample(t *testing.T) {
 
 // P6.1, P6.2: Of, Empty, Has and Area of all small rectangles, turned ones and those of same numbers among them.
 func TestAllSmallOnes(t *testing.T) {
-	for _, r := range smallOnes(low, high) {
+	for _, r := range small.Rects(low, high) {
 		p := pixelsOf(r)
 		if got := rect.Of(r.X0, r.Y0, r.X1, r.Y1); got != p.bound() {
 			t.Fatalf("Of(%v): %v", r, got)
@@ -61,7 +62,7 @@ func TestAllSmallOnes(t *testing.T) {
 
 // P6.1, P6.2: Cut, Join, Within and Less of each two small rectangles.
 func TestAllPairs(t *testing.T) {
-	l := smallOnes(-1, 3)
+	l := small.Rects(-1, 3)
 	for _, r := range l {
 		for _, s := range l {
 			pair(t, r, s)
@@ -72,13 +73,13 @@ func TestAllPairs(t *testing.T) {
 // P6.1: Cut and Join of three, in each order.
 func TestThrees(t *testing.T) {
 	next := noise.Numbers(1)
-	l := smallOnes(low, high)
+	l := small.Rects(low, high)
 	for range 100000 {
 		r, s, u := l[next()%uint64(len(l))], l[next()%uint64(len(l))], l[next()%uint64(len(l))]
 		all(t, r, s, u)
 		all(t, u, r, s)
 	}
-	l = smallOnes(0, 2)
+	l = small.Rects(0, 2)
 	for _, r := range l {
 		for _, s := range l {
 			for _, u := range l {
@@ -176,7 +177,7 @@ func TestOfGreatNumbers(t *testing.T) {
 			return put(r)
 		}
 		next := noise.Numbers(uint64(great[1]))
-		l := smallOnes(0, 4)
+		l := small.Rects(0, 4)
 		for range 40000 {
 			r, s, u := l[next()%uint64(len(l))], l[next()%uint64(len(l))], l[next()%uint64(len(l))]
 			var less []rect.Rect
@@ -216,7 +217,7 @@ func TestHasAtTheBounds(t *testing.T) {
 // P6.2: Grow gives each pixel up to n away, and below 0 it leaves those whose pixels up to n away are all there.
 func TestGrow(t *testing.T) {
 	window := rect.Rect{X0: low, Y0: low, X1: high, Y1: high}
-	for _, r := range smallOnes(-1, 3) {
+	for _, r := range small.Rects(-1, 3) {
 		for n := -4; n <= 4; n++ {
 			got := r.Grow(n)
 			if r.Grow(0) != rect.Of(r.X0, r.Y0, r.X1, r.Y1) {
