@@ -1,7 +1,9 @@
-// Package noise holds numbers and bytes without a pattern, for the tests of all
-// layers: what a seed begins is the same in each run, so that a test that fails
-// fails again.
+// Package noise holds numbers, bytes and pixels without a pattern, for the tests
+// of all layers: what a seed begins is the same in each run, so that a test that
+// fails fails again.
 package noise
+
+import "mutoscope/pixel"
 
 // Numbers tells a row of numbers, one by each call.
 func Numbers(seed uint64) func() uint64 {
@@ -24,4 +26,21 @@ func Bytes(n int) []byte {
 		l[i] = byte(r >> 24)
 	}
 	return l
+}
+
+// Pixel tells a right pixel, made of the numbers that next tells. Of each part
+// half are the least or the greatest that there may be, as what goes wrong does
+// so at these.
+func Pixel(next func() uint64) pixel.Pixel {
+	upTo := func(most uint64) uint64 {
+		switch next() % 4 {
+		case 0:
+			return most
+		case 1:
+			return 0
+		}
+		return next() % (most + 1)
+	}
+	a := upTo(255)
+	return pixel.Pixel(upTo(a)<<24 | upTo(a)<<16 | upTo(a)<<8 | a)
 }

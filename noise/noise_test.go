@@ -5,6 +5,7 @@ import (
 	"testing"
 
 	"mutoscope/noise"
+	"mutoscope/pixel"
 )
 
 // The tests of the layers lean on this: one seed is one row, and rows of other seeds are others.
@@ -51,5 +52,25 @@ func TestBytes(t *testing.T) {
 				t.Errorf("Bytes(%d) share memory", n)
 			}
 		}
+	}
+}
+
+// Pixels are right, the same ones of one seed, and those at the edges are among them.
+func TestPixels(t *testing.T) {
+	a, b, seen := noise.Numbers(1), noise.Numbers(1), map[pixel.Pixel]bool{}
+	for range 10000 {
+		p := noise.Pixel(a)
+		if p != noise.Pixel(b) || !p.Right() {
+			t.Fatalf("%08x", p)
+		}
+		seen[p] = true
+	}
+	for _, p := range []pixel.Pixel{0, 0x000000ff, 0xff0000ff, 0x00ff00ff, 0x0000ffff, 0xffffffff} {
+		if !seen[p] {
+			t.Errorf("no %08x", p)
+		}
+	}
+	if len(seen) < 3000 {
+		t.Errorf("%d of 10000 are others", len(seen))
 	}
 }

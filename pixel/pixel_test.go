@@ -125,23 +125,8 @@ func TestRight(t *testing.T) {
 	next := noise.Numbers(1)
 	for range 200000 {
 		check(pixel.Pixel(next()))
-		check(somePixel(next))
+		check(noise.Pixel(next))
 	}
-}
-
-// somePixel is a right one, often with parts at the edges.
-func somePixel(next func() uint64) pixel.Pixel {
-	below := func(n int) int {
-		switch next() % 4 {
-		case 0:
-			return n - 1
-		case 1:
-			return 0
-		}
-		return int(next() % uint64(n))
-	}
-	a := 1 + below(256)
-	return pixelOf(parts{below(a), below(a), below(a), a - 1})
 }
 
 // P9.1: By of all parts, the nearest whole number, and one by hand at each kind of edge.
@@ -173,7 +158,7 @@ func TestBy(t *testing.T) {
 	}
 	next := noise.Numbers(2)
 	for range 200000 {
-		p := somePixel(next)
+		p := noise.Pixel(next)
 		var l [6]int
 		for k := range l {
 			l[k] = int(next()>>(next()%8)) & 255
@@ -225,9 +210,9 @@ func TestOverAndStack(t *testing.T) {
 	for range 100000 {
 		l := make([]pixel.Pixel, next()%7)
 		for k := range l {
-			l[k] = somePixel(next)
+			l[k] = noise.Pixel(next)
 		}
-		given, p := slices.Clone(l), somePixel(next)
+		given, p := slices.Clone(l), noise.Pixel(next)
 		same(t, p.Over(l...), m.overAll(partsOf(p), l))
 		same(t, pixel.Stack(l...), m.stack(l))
 		if !slices.Equal(l, given) {
@@ -276,7 +261,7 @@ func TestOverRoundsEachStep(t *testing.T) {
 	m, next := plainProducts(), noise.Numbers(4)
 	others := 0
 	for range 10000 {
-		p, q, r := somePixel(next), somePixel(next), somePixel(next)
+		p, q, r := noise.Pixel(next), noise.Pixel(next), noise.Pixel(next)
 		down, up := p.Over(q, r), pixel.Stack(r, q, p)
 		same(t, down, m.over(m.over(partsOf(p), partsOf(q)), partsOf(r)))
 		same(t, up, m.over(partsOf(p), m.over(partsOf(q), partsOf(r))))
@@ -294,7 +279,7 @@ func TestMany(t *testing.T) {
 	m, next := plainProducts(), noise.Numbers(5)
 	l, by := make([]pixel.Pixel, 5000), make([]int, 5000)
 	for k := range l {
-		l[k], by[k] = somePixel(next), 255-int(next()%2)
+		l[k], by[k] = noise.Pixel(next), 255-int(next()%2)
 	}
 	same(t, l[0].Over(l[1:]...), m.overAll(partsOf(l[0]), l[1:]))
 	same(t, pixel.Stack(l...), m.stack(l))
@@ -327,7 +312,7 @@ func TestAllArguments(t *testing.T) {
 	wrong := append(wrongParts(), 0, 1, 255)
 	some := func() int { return wrong[next()%uint64(len(wrong))] }
 	for range 50000 {
-		p, l, by := pixel.Pixel(next()), []pixel.Pixel{pixel.Pixel(next()), somePixel(next), pixel.Pixel(next())}, []int{some(), some()}
+		p, l, by := pixel.Pixel(next()), []pixel.Pixel{pixel.Pixel(next()), noise.Pixel(next), pixel.Pixel(next())}, []int{some(), some()}
 		if p.Over(l...) != p.Over(l...) || pixel.Stack(l...) != pixel.Stack(l...) || p.By(by...) != p.By(by...) || pixel.By(by[0], by[1]) != pixel.By(by[0], by[1]) {
 			t.Fatalf("%08x, %08x, %d", p, l, by)
 		}
