@@ -31,7 +31,7 @@ func TestFillOfOne(t *testing.T) {
 	next := noise.Numbers(11)
 	for _, s := range [][2]int{{1, 1}, {1, 3}, {3, 1}, {3, 2}, {4, 4}} {
 		for _, r := range small.Rects(-1, 5) {
-			filled(t, some(next, s[0], s[1]), noise.Pixel(next), r)
+			filled(t, noise.Image(next, s[0], s[1]), noise.Pixel(next), r)
 		}
 	}
 }
@@ -40,7 +40,7 @@ func TestFillOfOne(t *testing.T) {
 func TestFillOfTwo(t *testing.T) {
 	next := noise.Numbers(12)
 	l := small.Rects(0, 3)
-	m := some(next, 3, 3)
+	m := noise.Image(next, 3, 3)
 	for _, r := range l {
 		for _, q := range l {
 			filled(t, m, noise.Pixel(next), r, q)
@@ -58,7 +58,7 @@ func TestFillOfMany(t *testing.T) {
 			x, y := int(next()%20)-4, int(next()%20)-4
 			l[k] = rect.Rect{X0: x, Y0: y, X1: x + int(next()%8) - 1, Y1: y + int(next()%8) - 1}
 		}
-		filled(t, some(next, w, h), noise.Pixel(next), l...)
+		filled(t, noise.Image(next, w, h), noise.Pixel(next), l...)
 	}
 }
 
@@ -94,7 +94,7 @@ func TestFillByHand(t *testing.T) {
 
 // Fill of a pixel that isn't right, or of an image that isn't, does nothing: what is wrong doesn't spread.
 func TestFillOfWrong(t *testing.T) {
-	m := some(noise.Numbers(14), 3, 3)
+	m := noise.Image(noise.Numbers(14), 3, 3)
 	a := plainOf(m)
 	for _, p := range wrongPixels() {
 		if n := m.Fill(p, m.Frame(), rect.Of(1, 1, 2, 2)); n != 0 {
@@ -114,7 +114,7 @@ func TestFillOfGreatNumbers(t *testing.T) {
 	far := []int{math.MinInt, math.MinInt + 1, -1 << 62, -1 << 40, -1 << 32, -1, 0, 1, 2, 3, 1 << 31, 1 << 32, 1 << 40, 1 << 62, math.MaxInt - 1, math.MaxInt}
 	next := noise.Numbers(15)
 	one := func() int { return far[next()%uint64(len(far))] }
-	m := some(next, 3, 2)
+	m := noise.Image(next, 3, 2)
 	for range 20000 {
 		l := make([]rect.Rect, 1+next()%3)
 		for k := range l {
@@ -136,9 +136,9 @@ func TestFillOfPatterns(t *testing.T) {
 	}
 	hole := []rect.Rect{rect.Of(0, 0, side, 20), rect.Of(0, 40, side, side), rect.Of(0, 0, 20, side), rect.Of(40, 0, side, side)}
 	for _, l := range [][]rect.Rect{board, stripes, hole, slices.Concat(board, hole), slices.Concat(stripes, board)} {
-		filled(t, some(noise.Numbers(16), side, side), 0x123456ff, l...)
+		filled(t, noise.Image(noise.Numbers(16), side, side), 0x123456ff, l...)
 		slices.Reverse(l)
-		filled(t, some(noise.Numbers(17), side, side), 0x123456ff, l...)
+		filled(t, noise.Image(noise.Numbers(17), side, side), 0x123456ff, l...)
 	}
 }
 

@@ -140,7 +140,7 @@ func TestCheckOfPixels(t *testing.T) {
 	next := noise.Numbers(1)
 	for _, s := range [][2]int{{1, 1}, {1, 5}, {5, 1}, {3, 4}, {16, 9}} {
 		for k := range s[0] * s[1] {
-			m := some(next, s[0], s[1])
+			m := noise.Image(next, s[0], s[1])
 			for _, p := range wrongPixels() {
 				m.Pixels[k] = p
 				if m.Check() != api.ErrForm || m.Small() {
@@ -190,7 +190,7 @@ func TestAtAndSet(t *testing.T) {
 	for _, s := range [][2]int{{1, 1}, {1, 2}, {2, 1}, {1, 7}, {7, 1}, {2, 3}, {3, 2}, {4, 4}, {5, 3}} {
 		for y := -8; y <= 8; y++ {
 			for x := -8; x <= 8; x++ {
-				m := some(next, s[0], s[1])
+				m := noise.Image(next, s[0], s[1])
 				a, p := plainOf(m), noise.Pixel(next)
 				if got, want := m.At(x, y), a.colour[place{x, y}]; got != want {
 					t.Fatalf("%d by %d: At(%d, %d): %08x, not %08x", s[0], s[1], x, y, got, want)
@@ -224,7 +224,7 @@ func TestFarPlaces(t *testing.T) {
 	far := []int{0, 1, 2, 3, 4, -1, -2, -4, 11, 12, 1 << 16, 1 << 31, 1 << 32, -1 << 32, 1<<32 + 1, 1 << 61, 1 << 62, 1<<62 + 1, -1 << 62, math.MaxInt, math.MaxInt - 1, math.MinInt, math.MinInt + 1}
 	next := noise.Numbers(3)
 	for _, s := range [][2]int{{4, 3}, {1, 12}, {12, 1}, {256, 2}} {
-		m := some(next, s[0], s[1])
+		m := noise.Image(next, s[0], s[1])
 		a := plainOf(m)
 		for _, x := range far {
 			for _, y := range far {
@@ -275,7 +275,7 @@ func TestOwnPixels(t *testing.T) {
 		t.Errorf("%08x", pixels)
 	}
 	next := noise.Numbers(4)
-	in, all := roomy(some(next, 5, 4))
+	in, all := roomy(noise.Image(next, 5, 4))
 	was := slices.Clone(all)
 	for y := -2; y < 7; y++ {
 		for x := -7; x < 12; x++ {
@@ -294,7 +294,7 @@ func TestOwnPixels(t *testing.T) {
 func TestCopy(t *testing.T) {
 	next := noise.Numbers(5)
 	for _, s := range [][2]int{{1, 1}, {3, 2}, {2, 3}, {17, 5}, {256, 256}} {
-		m, all := roomy(some(next, s[0], s[1]))
+		m, all := roomy(noise.Image(next, s[0], s[1]))
 		was := slices.Clone(all)
 		a, c := plainOf(m), m.Copy()
 		same(t, c, a)
@@ -346,14 +346,14 @@ func TestSum(t *testing.T) {
 	next := noise.Numbers(6)
 	for w := 1; w <= 9; w++ {
 		for h := 1; h <= 9; h++ {
-			m := some(next, w, h)
+			m := noise.Image(next, w, h)
 			if got, want := m.Sum(), crc.Sum(plainOf(m).bytes()); got != want {
 				t.Fatalf("%d by %d: Sum %08x, not %08x", w, h, got, want)
 			}
 		}
 	}
 	for _, s := range [][2]int{{1, 4096}, {4096, 1}, {257, 300}} {
-		m := some(next, s[0], s[1])
+		m := noise.Image(next, s[0], s[1])
 		if got, want := m.Sum(), crc.Sum(plainOf(m).bytes()); got != want {
 			t.Errorf("%d by %d: Sum %08x, not %08x", s[0], s[1], got, want)
 		}
@@ -363,7 +363,7 @@ func TestSum(t *testing.T) {
 // P10.2: images that differ in their sides, in one pixel, or in the order of two, have other sums, and aren't Equal.
 func TestSumsAndEqual(t *testing.T) {
 	next := noise.Numbers(7)
-	m := some(next, 6, 4)
+	m := noise.Image(next, 6, 4)
 	m.Pixels[0], m.Pixels[1] = 1, 2
 	unlike := func(what string, b image.Image) {
 		t.Helper()

@@ -5,7 +5,6 @@ import (
 	"testing"
 
 	"mutoscope/image"
-	"mutoscope/noise"
 	"mutoscope/pixel"
 	"mutoscope/rect"
 )
@@ -81,15 +80,6 @@ func same(t *testing.T, m image.Image, a plain) {
 			t.Fatalf("%d by %d: At(%d, %d): %08x, not %08x", m.W, m.H, at.x, at.y, m.At(at.x, at.y), p)
 		}
 	}
-}
-
-// some is a right image of this size, of pixels without a pattern.
-func some(next func() uint64, w, h int) image.Image {
-	m := image.Image{W: w, H: h, Pixels: make([]pixel.Pixel, w*h)}
-	for k := range m.Pixels {
-		m.Pixels[k] = noise.Pixel(next)
-	}
-	return m
 }
 
 // wrongPixels is such as have a colour above their A, each in another way.

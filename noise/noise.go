@@ -1,9 +1,12 @@
-// Package noise holds numbers, bytes and pixels without a pattern, for the tests
-// of all layers: what a seed begins is the same in each run, so that a test that
-// fails fails again.
+// Package noise holds numbers, bytes, pixels and images without a pattern, for the
+// tests of all layers: what a seed begins is the same in each run, so that a test
+// that fails fails again.
 package noise
 
-import "mutoscope/pixel"
+import (
+	"mutoscope/image"
+	"mutoscope/pixel"
+)
 
 // Numbers tells a row of numbers, one by each call.
 func Numbers(seed uint64) func() uint64 {
@@ -43,4 +46,13 @@ func Pixel(next func() uint64) pixel.Pixel {
 	}
 	a := upTo(255)
 	return pixel.Pixel(upTo(a)<<24 | upTo(a)<<16 | upTo(a)<<8 | a)
+}
+
+// Image tells an image of w by h such pixels: it is right, if its sides may be.
+func Image(next func() uint64, w, h int) image.Image {
+	m, _ := image.New(w, h)
+	for k := range m.Pixels {
+		m.Pixels[k] = Pixel(next)
+	}
+	return m
 }

@@ -4,6 +4,8 @@ import (
 	"bytes"
 	"testing"
 
+	"mutoscope/api"
+	"mutoscope/image"
 	"mutoscope/noise"
 	"mutoscope/pixel"
 )
@@ -72,5 +74,25 @@ func TestPixels(t *testing.T) {
 	}
 	if len(seen) < 3000 {
 		t.Errorf("%d of 10000 are others", len(seen))
+	}
+}
+
+// Images are right, of the sides that are asked, the same ones of one seed, and others of the numbers behind them; of sides that may not be they are nothing.
+func TestImages(t *testing.T) {
+	a, b := noise.Numbers(2), noise.Numbers(2)
+	for _, s := range [][2]int{{8, 1}, {1, 8}, {5, 7}, {256, 256}} {
+		m, again := noise.Image(a, s[0], s[1]), noise.Image(b, s[0], s[1])
+		if m.W != s[0] || m.H != s[1] || m.Check() != api.OK || !image.Equal(m, again) {
+			t.Errorf("%d by %d: %d by %d, Check %d", s[0], s[1], m.W, m.H, m.Check())
+		}
+		if other := noise.Image(a, s[0], s[1]); image.Equal(m, other) {
+			t.Errorf("%d by %d: the same again", s[0], s[1])
+		}
+		noise.Image(b, s[0], s[1])
+	}
+	for _, s := range [][2]int{{0, 1}, {1, 0}, {-1, -1}, {4097, 1}} {
+		if m := noise.Image(a, s[0], s[1]); m.W != 0 || m.H != 0 || len(m.Pixels) != 0 {
+			t.Errorf("%d by %d: %d by %d", s[0], s[1], m.W, m.H)
+		}
 	}
 }
