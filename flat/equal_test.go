@@ -18,7 +18,7 @@ import (
 // P14.2: Equal of items of which one thing differs, each one in turn.
 func TestEqualEachPart(t *testing.T) {
 	m := noise.Image(noise.Numbers(7), 3, 2)
-	l := listed(t, made(t, clipped(affine.Shift(5, 5), rect.Of(0, 0, 9, 9)), clipped(affine.One(), rect.Of(1, 1, 8, 8)), with(func(n *node.Node) { n.Look = node.ImageOf(m) })))
+	l := listed(t, made(t, clipped(affine.Shift(5, 5), rect.Of(0, 0, 9, 9)), clipped(affine.One(), rect.Of(1, 1, 8, 8)), scenery.With(func(n *node.Node) { n.Look = node.ImageOf(m) })))
 	other, _ := affine.Scale(3*one, one).Back()
 	changes := []func(i *flat.Item){
 		func(i *flat.Item) {},

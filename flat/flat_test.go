@@ -39,7 +39,7 @@ var (
 
 // P14.1, P14.2: the chapter's example.
 func TestExample(t *testing.T) {
-	l := listed(t, made(t, mapped(affine.Shift(one, 0), 2, 1)))
+	l := listed(t, made(t, scenery.Filled(affine.Shift(one, 0), 2, 1)))
 	if len(l) != 1 {
 		t.Fatalf("%d items", len(l))
 	}
@@ -74,9 +74,9 @@ func TestItemsByHand(t *testing.T) {
 	turned := affine.Map{B: 2 * one, C: -2 * one, E: 4 * one} // twice as great, to the right is down
 	s := made(t,
 		clipped(affine.Shift(one, one), rect.Of(-1, 0, 3, 3)),
-		with(func(n *node.Node) { n.Map, n.Look, n.Opacity = turned, node.ImageOf(m), 128 }),
-		with(func(n *node.Node) { n.Look, n.Opacity = node.FillOf(2, 2, 0x000000ff), 1 }),
-		with(func(n *node.Node) {
+		scenery.With(func(n *node.Node) { n.Map, n.Look, n.Opacity = turned, node.ImageOf(m), 128 }),
+		scenery.With(func(n *node.Node) { n.Look, n.Opacity = node.FillOf(2, 2, 0x000000ff), 1 }),
+		scenery.With(func(n *node.Node) {
 			n.Look, n.Opacity, n.Clipped, n.Clip = node.FillOf(2, 1, 0x40ff), 128, true, rect.Of(1, 0, 2, 1)
 		}))
 	l := listed(t, s)
@@ -106,8 +106,8 @@ func TestEdges(t *testing.T) {
 		x0, x1 int
 	}{{one / 2, 0, 2}, {one/2 - 1, 0, 2}, {one/2 + 1, 1, 3}, {-one / 2, -1, 1}, {-one/2 + 1, 0, 2}, {-one/2 - 1, -1, 1}, {one - 1, 1, 3}, {1, 0, 2}, {-1, 0, 2}} {
 		for _, n := range [][]node.Node{
-			{mapped(affine.Shift(at.e, 0), 2, 9)},
-			{clipped(affine.Shift(at.e, 0), rect.Of(0, 0, 2, 9)), mapped(affine.Shift(-at.e-4*one, 0), 16, 9)},
+			{scenery.Filled(affine.Shift(at.e, 0), 2, 9)},
+			{clipped(affine.Shift(at.e, 0), rect.Of(0, 0, 2, 9)), scenery.Filled(affine.Shift(-at.e-4*one, 0), 16, 9)},
 		} {
 			l := listed(t, made(t, n...))
 			for x := -4; x < 8; x++ {
@@ -116,7 +116,7 @@ func TestEdges(t *testing.T) {
 				}
 			}
 		}
-		l := listed(t, made(t, mapped(affine.Shift(0, at.e), 9, 2)))
+		l := listed(t, made(t, scenery.Filled(affine.Shift(0, at.e), 9, 2)))
 		for y := -4; y < 8; y++ {
 			if in := at.x0 <= y && y < at.x1; len(l) != 1 || l[0].Covers(0, y) != in {
 				t.Errorf("from %d down: at %d %v", at.e, y, l)
@@ -128,7 +128,7 @@ func TestEdges(t *testing.T) {
 // P14.2: each small clip, turned ones among them, that are told as they are, and leave nothing.
 func TestClips(t *testing.T) {
 	for _, r := range small.Rects(-1, 2) {
-		s := made(t, clipped(affine.Shift(0, one), r), mapped(affine.Shift(-one, -one), 3, 3))
+		s := made(t, clipped(affine.Shift(0, one), r), scenery.Filled(affine.Shift(-one, -one), 3, 3))
 		l := listed(t, s)
 		if len(l) != 1 || len(l[0].Clips) != 1 || l[0].Clips[0].Rect != r {
 			t.Fatalf("%v: %v", r, l)
@@ -145,7 +145,7 @@ func TestOpacities(t *testing.T) {
 	next := noise.Numbers(1)
 	for o := 1; o < 256; o++ {
 		m := noise.Image(next, 4, 4)
-		l := listed(t, made(t, with(func(n *node.Node) { n.Opacity, n.Look = o, node.ImageOf(m) })))
+		l := listed(t, made(t, scenery.With(func(n *node.Node) { n.Opacity, n.Look = o, node.ImageOf(m) })))
 		if covered, _ := asked(t, l, rect.Of(-1, -1, 5, 5)); covered != 16 {
 			t.Fatalf("%d: %d are covered", o, covered)
 		}
@@ -159,7 +159,7 @@ func TestFarPixels(t *testing.T) {
 	places, covered := []int{-16384, -16383, -8192, -1, 0, 1, 4095, 4096, 8191, 16382, 16383}, 0
 	for _, m := range maps {
 		for _, r := range []rect.Rect{rect.Of(-16384, -16384, 16384, 16384), rect.Of(0, 0, 4096, 4096), rect.Of(-1, -1, 1, 1), rect.Of(-16384, -16384, -16383, 16384)} {
-			n := mapped(m, 4096, 4096)
+			n := scenery.Filled(m, 4096, 4096)
 			n.Clipped, n.Clip = true, r
 			l := listed(t, made(t, n))
 			if len(l) != 1 {

@@ -28,7 +28,7 @@ func ids(l []flat.Item) []int {
 func TestNone(t *testing.T) {
 	for k, l := range [][]node.Node{
 		{node.Plain()}, {node.Plain(), node.Plain()}, {clipped(affine.One(), rect.Of(0, 0, 1, 1))},
-		{with(func(n *node.Node) { n.Hidden, n.Look = true, node.FillOf(1, 1, 255) })}, {mapped(affine.Map{}, 1, 1)}, {with(func(n *node.Node) { n.Opacity, n.Look = 0, node.FillOf(1, 1, 255) })},
+		{scenery.With(func(n *node.Node) { n.Hidden, n.Look = true, node.FillOf(1, 1, 255) })}, {scenery.Filled(affine.Map{}, 1, 1)}, {scenery.With(func(n *node.Node) { n.Opacity, n.Look = 0, node.FillOf(1, 1, 255) })},
 	} {
 		if got := flat.List(made(t, l...)); len(got) != 0 {
 			t.Errorf("%d: %v", k, got)
@@ -69,7 +69,7 @@ func TestOrder(t *testing.T) {
 // somes is nodes that differ each in another thing from one that shows a fill.
 func somes() []node.Node {
 	change := func(f func(n *node.Node)) node.Node {
-		n := with(func(n *node.Node) { n.Look = node.FillOf(2, 2, 0x10ff) })
+		n := scenery.With(func(n *node.Node) { n.Look = node.FillOf(2, 2, 0x10ff) })
 		f(&n)
 		return n
 	}
@@ -103,7 +103,7 @@ func TestRows(t *testing.T) {
 // P14.1: opacities are rounded from the root down, one behind the other: other ways round would tell others.
 func TestOpacityOrder(t *testing.T) {
 	o := func(n int) node.Node {
-		return with(func(x *node.Node) { x.Opacity, x.Look = n, node.FillOf(1, 1, 255) })
+		return scenery.With(func(x *node.Node) { x.Opacity, x.Look = n, node.FillOf(1, 1, 255) })
 	}
 	differ := 0
 	for _, a := range []int{1, 2, 3, 100, 127, 128, 254, 255} {
@@ -138,7 +138,7 @@ func TestWaysBack(t *testing.T) {
 	} {
 		var l []node.Node
 		for _, m := range c.l {
-			l = append(l, mapped(m, 1, 1))
+			l = append(l, scenery.Filled(m, 1, 1))
 		}
 		if got := listed(t, made(t, l...)); !slices.Equal(ids(got), c.want) {
 			t.Errorf("%d: %v, not %v", k, ids(got), c.want)
@@ -150,7 +150,7 @@ func TestWaysBack(t *testing.T) {
 func TestLooks(t *testing.T) {
 	next := noise.Numbers(3)
 	for _, look := range []node.Look{node.FillOf(1, 1, 0), node.FillOf(4096, 4096, 0xffffffff), node.ImageOf(noise.Image(next, 1, 1)), node.ImageOf(noise.Image(next, 256, 256)), node.ImageOf(noise.Image(next, 1, 256))} {
-		l := listed(t, made(t, node.Plain(), with(func(n *node.Node) { n.Look = look })))
+		l := listed(t, made(t, node.Plain(), scenery.With(func(n *node.Node) { n.Look = look })))
 		if len(l) != 1 || l[0].Id != 1 || !sameLook(l[0].Look, look) {
 			t.Errorf("%v", l)
 		}

@@ -180,19 +180,7 @@ func do(t *testing.T, s *scene.Scene, l ...scene.Op) {
 	}
 }
 
-// with is Plain, but for what f sets.
-func with(f func(n *node.Node)) node.Node {
-	n := node.Plain()
-	f(&n)
-	return n
-}
-
-// mapped is a fill of w by h, of that map.
-func mapped(m affine.Map, w, h int) node.Node {
-	return with(func(n *node.Node) { n.Map, n.Look = m, node.FillOf(w, h, 0xff) })
-}
-
 // clipped is a bare node, clipped to r.
 func clipped(m affine.Map, r rect.Rect) node.Node {
-	return with(func(n *node.Node) { n.Map, n.Clipped, n.Clip = m, true, r })
+	return scenery.With(func(n *node.Node) { n.Map, n.Clipped, n.Clip = m, true, r })
 }

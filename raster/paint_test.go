@@ -21,7 +21,7 @@ import (
 
 // P15.2: by hand: two that have a pixel in common, one beyond the image, and none; each pixel once, and no other one.
 func TestPaintByHand(t *testing.T) {
-	s := made(t, 4, 2, with(func(n *node.Node) { n.Look = node.FillOf(4, 2, 0x40000080) }))
+	s := scenery.Of(4, 2, scenery.With(func(n *node.Node) { n.Look = node.FillOf(4, 2, 0x40000080) }))
 	m := image.Image{W: 4, H: 2, Pixels: []pixel.Pixel{1, 2, 3, 4, 5, 6, 7, 8}}
 	if n := raster.Paint(m, flat.List(s), rect.Of(1, 0, 3, 1), rect.Of(2, 0, 3, 9), rect.Of(9, 9, 12, 12), rect.Rect{X0: 4, Y0: 2}); n != 3 || !slices.Equal(m.Pixels, []pixel.Pixel{1, 0x40000080, 0x40000080, 4, 5, 6, 0x40000080, 8}) {
 		t.Errorf("Paint: %d, %08x", n, m.Pixels)
@@ -138,11 +138,11 @@ func TestPaintOtherSides(t *testing.T) {
 func TestPaintLimits(t *testing.T) {
 	var nodes []node.Node
 	for k := range 1000 {
-		nodes = append(nodes, with(func(n *node.Node) {
+		nodes = append(nodes, scenery.With(func(n *node.Node) {
 			n.Map, n.Look = affine.Shift(int64(k*37%4096)*one, int64(k*101%4096)*one), node.FillOf(30, 30, pixel.Pixel(1+k%255))
 		}))
 	}
-	l := flat.List(made(t, 1, 1, nodes...))
+	l := flat.List(scenery.Of(1, 1, nodes...))
 	m, _ := image.New(api.MaxSide, api.MaxSide)
 	for k := range 200 {
 		x, y := k*37%4096, k*101%4096
@@ -174,7 +174,7 @@ func wrong() []image.Image {
 
 // P1, P15.2: images that aren't right, of which nothing is promised: each call ends.
 func TestPaintWrong(t *testing.T) {
-	l := flat.List(made(t, 9, 9, with(func(n *node.Node) { n.Look = node.FillOf(9, 9, 0xff) })))
+	l := flat.List(scenery.Of(9, 9, scenery.With(func(n *node.Node) { n.Look = node.FillOf(9, 9, 0xff) })))
 	for _, m := range wrong() {
 		for _, r := range []rect.Rect{m.Frame(), rect.Of(0, 0, 9, 9), {X0: math.MinInt, Y0: math.MinInt, X1: math.MaxInt, Y1: math.MaxInt}} {
 			raster.Paint(m, l, r)

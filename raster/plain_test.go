@@ -8,12 +8,10 @@ import (
 	"mutoscope/api"
 	"mutoscope/flat"
 	"mutoscope/image"
-	"mutoscope/node"
 	"mutoscope/pixel"
 	"mutoscope/raster"
 	"mutoscope/rect"
 	"mutoscope/scene"
-	"mutoscope/scenery"
 )
 
 const one = api.One
@@ -82,29 +80,9 @@ func lies(x, y int, l []rect.Rect) bool {
 	return slices.ContainsFunc(l, func(r rect.Rect) bool { return r.X0 <= x && x < r.X1 && r.Y0 <= y && y < r.Y1 })
 }
 
-// made is a scene of w by h of these nodes, that lie in a bare root, one on the other.
-func made(t *testing.T, w, h int, l ...node.Node) *scene.Scene {
-	t.Helper()
-	s, e := scene.New(w, h, api.MaxNodes)
-	if e != api.OK {
-		t.Fatalf("New(%d, %d): %d", w, h, e)
-	}
-	for k, n := range l {
-		do(t, s, append([]scene.Op{{Kind: scene.Create, Id: k + 1, Place: k}}, scenery.Set(k+1, n)...)...)
-	}
-	return s
-}
-
 func do(t *testing.T, s *scene.Scene, l ...scene.Op) {
 	t.Helper()
 	if at, e := s.Apply(l...); at != len(l) || e != api.OK {
 		t.Fatalf("Apply %v: %d, %d", l, at, e)
 	}
-}
-
-// with is Plain, but for what f sets.
-func with(f func(n *node.Node)) node.Node {
-	n := node.Plain()
-	f(&n)
-	return n
 }

@@ -27,7 +27,7 @@ var (
 
 // P15.1, P15.2: the chapter's example.
 func TestExample(t *testing.T) {
-	s := made(t, 2, 1, with(func(n *node.Node) { n.Look = node.FillOf(1, 1, 255) }))
+	s := scenery.Of(2, 1, scenery.With(func(n *node.Node) { n.Look = node.FillOf(1, 1, 255) }))
 	m := pictured(t, s)
 	if !slices.Equal(m.Pixels, []pixel.Pixel{255, 0}) {
 		t.Errorf("Pix: %v", m)
@@ -41,11 +41,11 @@ func TestExample(t *testing.T) {
 // P15.1: Pixel by hand: the last one lies on top, what has no colour leaves what there is, and of no items it is 0.
 func TestPixelByHand(t *testing.T) {
 	fill := func(x, w int, c pixel.Pixel, opacity int) node.Node {
-		return with(func(n *node.Node) {
+		return scenery.With(func(n *node.Node) {
 			n.Map, n.Look, n.Opacity = affine.Shift(int64(x)*one, 0), node.FillOf(w, 1, c), opacity
 		})
 	}
-	l := flat.List(made(t, 8, 1, fill(0, 4, 0x0000ffff, 255), fill(1, 4, 0x80000080, 255), fill(2, 4, 0, 255), fill(3, 5, 0x00ff00ff, 128)))
+	l := flat.List(scenery.Of(8, 1, fill(0, 4, 0x0000ffff, 255), fill(1, 4, 0x80000080, 255), fill(2, 4, 0, 255), fill(3, 5, 0x00ff00ff, 128)))
 	for x, want := range []pixel.Pixel{0x0000ffff, 0x80007fff, 0x80007fff, 0x40803fff, 0x408000c0, 0x00800080, 0x00800080, 0x00800080, 0} {
 		if p := raster.Pixel(l, x, 0); p != want || raster.Pixel(l, x, 1) != 0 || raster.Pixel(nil, x, 0) != 0 {
 			t.Errorf("Pixel(%d, 0): %08x, not %08x", x, p, want)
@@ -64,9 +64,9 @@ func TestPixelByHand(t *testing.T) {
 
 // P15.1: Pixel is told of pixels that no image has, too.
 func TestPixelOutside(t *testing.T) {
-	n := with(func(n *node.Node) { n.Map, n.Look = affine.Shift(-16384*one, -16384*one), node.FillOf(1, 1, 7) })
-	far := with(func(n *node.Node) { n.Map, n.Look = affine.Shift(16383*one, 16383*one), node.FillOf(1, 1, 9) })
-	l := flat.List(made(t, 1, 1, n, far))
+	n := scenery.With(func(n *node.Node) { n.Map, n.Look = affine.Shift(-16384*one, -16384*one), node.FillOf(1, 1, 7) })
+	far := scenery.With(func(n *node.Node) { n.Map, n.Look = affine.Shift(16383*one, 16383*one), node.FillOf(1, 1, 9) })
+	l := flat.List(scenery.Of(1, 1, n, far))
 	if a, b, c := raster.Pixel(l, -16384, -16384), raster.Pixel(l, 16383, 16383), raster.Pixel(l, 0, 0); a != 7 || b != 9 || c != 0 {
 		t.Errorf("%08x, %08x, %08x", a, b, c)
 	}
@@ -75,7 +75,7 @@ func TestPixelOutside(t *testing.T) {
 // P15.1: a scene that shows nothing, of the least sides and of the greatest.
 func TestNothing(t *testing.T) {
 	for _, side := range [][2]int{{1, 1}, {1, api.MaxSide}, {api.MaxSide, 1}, {api.MaxSide, api.MaxSide}} {
-		m := raster.Pix(made(t, side[0], side[1]))
+		m := raster.Pix(scenery.Of(side[0], side[1]))
 		if m.W != side[0] || m.H != side[1] || m.Check() != api.OK || slices.Max(m.Pixels) != 0 {
 			t.Errorf("%v: %d by %d, Check %d", side, m.W, m.H, m.Check())
 		}
@@ -119,14 +119,14 @@ func TestSmallThings(t *testing.T) {
 		var l []node.Node
 		for range 12 {
 			x, y := int64(next()%(120*one)), int64(next()%(90*one))
-			l = append(l, with(func(n *node.Node) { n.Map, n.Look = affine.Shift(x, y), node.FillOf(1, 1, noise.Pixel(next)) }),
-				with(func(n *node.Node) {
+			l = append(l, scenery.With(func(n *node.Node) { n.Map, n.Look = affine.Shift(x, y), node.FillOf(1, 1, noise.Pixel(next)) }),
+				scenery.With(func(n *node.Node) {
 					n.Map = affine.Map{A: one, B: int64(next() % one), C: int64(next()%one) - one, D: one, E: x, F: y}
 					n.Look = node.FillOf(1+int(next()%100), 1, noise.Pixel(next))
 				}))
 		}
-		l = append(l, with(func(n *node.Node) { n.Map, n.Look = affine.Shift(119*one, 89*one), node.FillOf(1, 1, 0x77) }))
-		if m := pictured(t, made(t, 120, 90, l...)); m.At(119, 89)&0xff < 0x77 {
+		l = append(l, scenery.With(func(n *node.Node) { n.Map, n.Look = affine.Shift(119*one, 89*one), node.FillOf(1, 1, 0x77) }))
+		if m := pictured(t, scenery.Of(120, 90, l...)); m.At(119, 89)&0xff < 0x77 {
 			t.Errorf("%08x in the corner", m.At(119, 89))
 		}
 	}
@@ -137,17 +137,17 @@ func TestGreatWorlds(t *testing.T) {
 	m := image.Image{W: 2, H: 2, Pixels: []pixel.Pixel{0x11, 0x22, 0x33, 0x44}}
 	for _, c := range []affine.Map{affine.Scale(11<<24, one), affine.Scale(one, 11<<24), affine.Scale(-11<<24, one), {A: 11 << 24, D: one, E: -2800 * one}, {A: 11 << 22, B: 5 << 22, C: -7 << 22, D: 9 << 22, E: 500 * one, F: 9 * one}, {A: 1 << 30, B: 1<<30 - 1, C: -1 << 30, D: 1 << 30, E: -1 << 30, F: 1 << 29}, {A: 1<<16 + 1, B: 1 << 16, C: 1 << 16, D: 1 << 16}, {A: 4, D: 4}} {
 		for _, side := range [][2]int{{4096, 1}, {1, 4096}, {70, 70}} {
-			pictured(t, made(t, side[0], side[1],
-				with(func(n *node.Node) { n.Map, n.Look = c, node.FillOf(1, 1, 0x55) }),
-				with(func(n *node.Node) { n.Map, n.Look = c, node.ImageOf(m) }),
-				with(func(n *node.Node) { n.Map, n.Look, n.Opacity = c, node.FillOf(4096, 4096, 0x80ff), 99 }),
-				with(func(n *node.Node) {
+			pictured(t, scenery.Of(side[0], side[1],
+				scenery.With(func(n *node.Node) { n.Map, n.Look = c, node.FillOf(1, 1, 0x55) }),
+				scenery.With(func(n *node.Node) { n.Map, n.Look = c, node.ImageOf(m) }),
+				scenery.With(func(n *node.Node) { n.Map, n.Look, n.Opacity = c, node.FillOf(4096, 4096, 0x80ff), 99 }),
+				scenery.With(func(n *node.Node) {
 					n.Map, n.Look, n.Clipped, n.Clip = c, node.FillOf(4096, 4096, 0x0ff0ff), true, rect.Of(0, 0, 1, 1)
 				})))
 		}
 	}
 	// The world takes the edge of the first pixel to 2816, the way back's is at 2849 4/23.
-	p := raster.Pix(made(t, 4096, 1, with(func(n *node.Node) { n.Map, n.Look = affine.Scale(11<<24, one), node.FillOf(1, 1, 0x55) })))
+	p := raster.Pix(scenery.Of(4096, 1, scenery.With(func(n *node.Node) { n.Map, n.Look = affine.Scale(11<<24, one), node.FillOf(1, 1, 0x55) })))
 	if at := slices.Index(p.Pixels, 0); at != 2849 {
 		t.Errorf("up to %d", at)
 	}
@@ -156,9 +156,9 @@ func TestGreatWorlds(t *testing.T) {
 // P15.1: the greatest picture, all of it covered, and one pixel that lies on it.
 func TestGreatest(t *testing.T) {
 	const side = api.MaxSide
-	m := raster.Pix(made(t, side, side,
-		with(func(n *node.Node) { n.Look = node.FillOf(side, side, 0x0000ffff) }),
-		with(func(n *node.Node) {
+	m := raster.Pix(scenery.Of(side, side,
+		scenery.With(func(n *node.Node) { n.Look = node.FillOf(side, side, 0x0000ffff) }),
+		scenery.With(func(n *node.Node) {
 			n.Map, n.Look = affine.Shift((side-1)*one, (side-1)*one), node.FillOf(side, side, 0x80000080)
 		})))
 	last := len(m.Pixels) - 1

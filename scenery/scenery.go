@@ -1,6 +1,6 @@
-// Package scenery holds scenes without a pattern, for the tests of the layers
-// that show them: what a row of numbers makes is the same in each run. Most of
-// what is in a scene is seen in its frame, and some of each kind isn't.
+// Package scenery holds scenes, for the tests of the layers that show them. What
+// a row of numbers makes has no pattern, and is the same in each run; most of what
+// is in such a scene is seen in its frame, and some of each kind isn't.
 package scenery
 
 import (
@@ -20,10 +20,36 @@ func Scene(next func() uint64, w, h, nodes int) *scene.Scene {
 	for id := 1; id < nodes; id++ {
 		parent := below(next, id)
 		place := below(next, len(s.Kids(parent))+1)
-		l := []scene.Op{{Kind: scene.Create, Id: id, Parent: parent, Place: place}}
-		s.Apply(append(l, Set(id, Node(next, w))...)...)
+		s.Apply(Put(id, parent, place, Node(next, w))...)
 	}
 	return s
+}
+
+// Of tells a scene of w by h pixels with these nodes from 1 on, that lie in a bare
+// root, each one on the one ahead of it; none, if that is refused.
+func Of(w, h int, l ...node.Node) *scene.Scene {
+	s, e := scene.New(w, h, api.MaxNodes)
+	for k, n := range l {
+		if e == api.OK {
+			_, e = s.Apply(Put(k+1, 0, k, n)...)
+		}
+	}
+	if e != api.OK {
+		return nil
+	}
+	return s
+}
+
+// With tells layer 11's Plain, but for what f sets.
+func With(f func(n *node.Node)) node.Node {
+	n := node.Plain()
+	f(&n)
+	return n
+}
+
+// Filled tells a node of that map that is a fill of w by h.
+func Filled(m affine.Map, w, h int) node.Node {
+	return With(func(n *node.Node) { n.Map, n.Look = m, node.FillOf(w, h, 0xff) })
 }
 
 // Op tells an op that changes something of s, or would, if it weren't refused;
@@ -97,6 +123,11 @@ func still(next func() uint64) affine.Map {
 		}
 	}
 	return affine.One()
+}
+
+// Put tells the ops by which n is the node id, at its place in its parent.
+func Put(id, parent, place int, n node.Node) []scene.Op {
+	return append([]scene.Op{{Kind: scene.Create, Id: id, Parent: parent, Place: place}}, Set(id, n)...)
 }
 
 // Set tells the ops by which the node id is n.

@@ -1,9 +1,12 @@
 package scenery_test
 
 import (
+	"slices"
 	"testing"
 
+	"mutoscope/affine"
 	"mutoscope/api"
+	"mutoscope/node"
 	"mutoscope/noise"
 	"mutoscope/scene"
 	"mutoscope/scenery"
@@ -50,6 +53,31 @@ func TestOp(t *testing.T) {
 	}
 	if refused < 500 || refused > 10000 {
 		t.Errorf("%d refused", refused)
+	}
+}
+
+// What is made by hand is what was asked for, and none, if that is refused.
+func TestOf(t *testing.T) {
+	bare := scenery.With(func(n *node.Node) { n.Opacity = 7 })
+	s := scenery.Of(5, 3, scenery.Filled(affine.Shift(9, 8), 2, 1), bare)
+	if w, h, most := s.Size(); w != 5 || h != 3 || most != api.MaxNodes || !slices.Equal(s.Kids(0), []int{1, 2}) || s.Len() != 3 {
+		t.Fatalf("%d by %d, of %d: %v", w, h, most, s.Kids(0))
+	}
+	want := node.Plain()
+	want.Map, want.Look = affine.Shift(9, 8), node.FillOf(2, 1, 0xff)
+	if n, _ := s.Node(1); !node.Equal(n, want) {
+		t.Errorf("%v", n)
+	}
+	want = node.Plain()
+	want.Opacity = 7
+	if n, _ := s.Node(2); !node.Equal(n, want) {
+		t.Errorf("%v", n)
+	}
+	if at, e := s.Apply(scenery.Put(9, 2, 0, bare)...); e != api.OK || s.Parent(9) != 2 || at != 6 {
+		t.Errorf("Put: %d, %d", at, e)
+	}
+	if scenery.Of(0, 1) != nil || scenery.Of(1, 1, scenery.Filled(affine.One(), 0, 1), bare) != nil || scenery.Of(1, 1) == nil {
+		t.Error("what is refused")
 	}
 }
 
