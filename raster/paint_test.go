@@ -159,6 +159,49 @@ func TestPaintLimits(t *testing.T) {
 	painted(t, small, l, r...)
 }
 
+// P15.2: many rectangles that lie apart, in rows, in columns, and anywhere: each item reaches some of them.
+func TestPaintApart(t *testing.T) {
+	next, total := noise.Numbers(18), 0
+	for k := range 300 {
+		w, h := 1+int(next()%60), 1+int(next()%60)
+		r := make([]rect.Rect, 2+next()%200)
+		for j := range r {
+			x, y := int(next()%60), int(next()%60)
+			switch k % 3 {
+			case 0:
+				x, y = x/3*3, y/2*2
+			case 1:
+				y = 0
+			}
+			r[j] = rect.Of(x, y, x+1+int(next()%2), y+1+int(next()%2)*(k%4)*9)
+		}
+		total += painted(t, noise.Image(next, w, h), some(next, 60), r...)
+	}
+	if total < 20000 {
+		t.Errorf("%d are painted", total)
+	}
+}
+
+// P15.2: very many items that lie apart, of which all are painted, each by a rectangle of its own, in short time.
+func TestPaintEachApart(t *testing.T) {
+	const n, side = 1 << 14, 12
+	var nodes []node.Node
+	var r []rect.Rect
+	m, _ := image.New(128*16, 128*16)
+	want := m.Copy()
+	for k := range n {
+		x, y, c := k%128*16, k/128*16, pixel.Pixel(1+k%255)
+		nodes = append(nodes, scenery.With(func(n *node.Node) {
+			n.Map, n.Look = affine.Shift(int64(x)*one, int64(y)*one), node.FillOf(side, side, c)
+		}))
+		r = append(r, rect.Of(x, y, x+side, y+side))
+		want.Fill(c, r[k])
+	}
+	if painted := raster.Paint(m, flat.List(scenery.Of(1, 1, nodes...)), r...); painted != n*side*side || !image.Equal(m, want) {
+		t.Errorf("%d are painted", painted)
+	}
+}
+
 // wrong tells images that aren't right: of sides that may not be, and of too few or too many pixels.
 func wrong() []image.Image {
 	l := []image.Image{{}}
