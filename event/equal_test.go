@@ -6,6 +6,7 @@ import (
 	"slices"
 	"testing"
 
+	"mutoscope/arrivals"
 	"mutoscope/event"
 	"mutoscope/image"
 	"mutoscope/node"
@@ -27,16 +28,6 @@ func asked(t *testing.T, a, b event.Event) bool {
 	return want
 }
 
-// copied is e with ops and pixels of its own.
-func copied(e event.Event) event.Event {
-	e.Ops = slices.Clone(e.Ops)
-	for k := range e.Ops {
-		m := &e.Ops[k].Look.Image
-		m.Pixels = slices.Clone(m.Pixels)
-	}
-	return e
-}
-
 // P19.2: Equal and EqualOps by hand.
 func TestEqualByHand(t *testing.T) {
 	a, b := scene.Op{Kind: scene.Delete, Id: 1}, scene.Op{Kind: scene.Delete, Id: 2}
@@ -49,7 +40,7 @@ func TestEqualByHand(t *testing.T) {
 		{event.Of(), event.Event{Kind: 1}, true}, {event.Of(), event.Event{Kind: 1, Ops: []scene.Op{}}, true}, {event.Event{Ops: []scene.Op{}}, event.Event{}, true}, {event.Of(), event.Event{}, false},
 		{event.Of(a, b), event.Of(a, b), true}, {event.Of(a, b), event.Of(b, a), false}, {event.Of(a, b), event.Of(a), false}, {event.Of(a), event.Of(), false}, {event.Of(a), event.Of(a, a), false}, {event.Of(scene.Op{}), event.Of(), false},
 		// What a kind doesn't have is held against the other's, too.
-		{event.Number(6, 7), event.Number(6, 7).Plain(), false}, {event.Event{Kind: 2, Ops: []scene.Op{a}}, event.Event{Kind: 2}, false}, {event.Event{Kind: 1, X: 1}, event.Of(), false}, {event.Of(fullOp(2)), event.Of(fullOp(2)).Plain(), false},
+		{event.Number(6, 7), event.Number(6, 7).Plain(), false}, {event.Event{Kind: 2, Ops: []scene.Op{a}}, event.Event{Kind: 2}, false}, {event.Event{Kind: 1, X: 1}, event.Of(), false}, {event.Of(arrivals.FullOp(2)), event.Of(arrivals.FullOp(2)).Plain(), false},
 	} {
 		if asked(t, c.a, c.b) != c.same {
 			t.Errorf("%d: not %v", k, c.same)
@@ -61,16 +52,16 @@ func TestEqualByHand(t *testing.T) {
 func TestEqualOfEachBit(t *testing.T) {
 	l := []event.Event{{}, event.Of(scene.Op{}, scene.Op{})}
 	for kind := range 10 {
-		e := fullEvent(kind)
-		e.Ops = []scene.Op{fullOp(kind), fullOp(9 - kind)}
+		e := arrivals.Full(kind)
+		e.Ops = []scene.Op{arrivals.FullOp(kind), arrivals.FullOp(9 - kind)}
 		l = append(l, e)
 	}
-	for _, look := range someLooks() {
+	for _, look := range arrivals.Looks() {
 		l = append(l, event.Event{Ops: []scene.Op{{Kind: scene.SetLook, Look: look}, {Look: look}}})
 	}
 	turned := 0
 	for _, e := range l {
-		c := copied(e)
+		c := arrivals.Copy(e)
 		for _, leaf := range leaves(reflect.ValueOf(&c).Elem()) {
 			for bit := range width(leaf) {
 				turn(leaf, bit)
@@ -129,7 +120,7 @@ func TestEqualOfImages(t *testing.T) {
 	}
 	great := event.Of(scene.Op{Kind: scene.SetLook, Look: node.ImageOf(noise.Image(noise.Numbers(5), 256, 256))})
 	for _, place := range []int{0, 1, 255, 256, 32768, 65535} {
-		c := copied(great)
+		c := arrivals.Copy(great)
 		if !asked(t, great, c) {
 			t.Errorf("the same isn't Equal")
 		}
@@ -172,8 +163,8 @@ func TestEqualOfPairs(t *testing.T) {
 	next := noise.Numbers(6)
 	var l []event.Event
 	for range 60 {
-		e := drawnEvent(next)
-		l = append(l, e, copied(e), e.Plain())
+		e := arrivals.Any(next)
+		l = append(l, e, arrivals.Copy(e), e.Plain())
 	}
 	equal := 0
 	for _, a := range l {
@@ -190,9 +181,9 @@ func TestEqualOfPairs(t *testing.T) {
 
 // The rule of memory: what Equal and EqualOps are asked of stays as it was.
 func TestEqualMemory(t *testing.T) {
-	a, b := fullEvent(event.Change), fullEvent(event.Change)
+	a, b := arrivals.Full(event.Change), arrivals.Full(event.Change)
 	b.Ops[7].Look.Image.Pixels[1] = 9
-	wasA, wasB := copied(a), copied(b)
+	wasA, wasB := arrivals.Copy(a), arrivals.Copy(b)
 	event.Equal(a, b)
 	event.EqualOps(a.Ops, b.Ops)
 	stands(t, a, wasA)

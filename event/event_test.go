@@ -6,6 +6,7 @@ import (
 	"testing"
 
 	"mutoscope/api"
+	"mutoscope/arrivals"
 	"mutoscope/event"
 	"mutoscope/image"
 	"mutoscope/node"
@@ -49,7 +50,7 @@ func TestOf(t *testing.T) {
 	for _, n := range []int{0, 1, 2, 3, 7, 100, api.MaxOps - 1, api.MaxOps, api.MaxOps + 1, 3000} {
 		var l, was []scene.Op
 		for k := range n {
-			o := drawnOp(next)
+			o := arrivals.AnyOp(next)
 			o.Place = k
 			l, was = append(l, o), append(was, o)
 		}
@@ -60,9 +61,9 @@ func TestOf(t *testing.T) {
 	}
 	stands(t, event.Of(), event.Event{Kind: 1})
 	stands(t, event.Of(scene.Op{}, scene.Op{Kind: 2, Id: 7}), event.Event{Kind: 1, Ops: []scene.Op{{}, {Kind: 2, Id: 7}}})
-	for _, look := range someLooks() {
+	for _, look := range arrivals.Looks() {
 		for kind := -1; kind < 10; kind++ {
-			o := fullOp(kind)
+			o := arrivals.FullOp(kind)
 			o.Look = look
 			stands(t, event.Of(o), event.Event{Kind: 1, Ops: []scene.Op{o}})
 		}
@@ -71,8 +72,8 @@ func TestOf(t *testing.T) {
 
 // P19.1: At tells a Press at any pixel, and Number an event of any kind, also one that has no number, with any.
 func TestAtAndNumber(t *testing.T) {
-	for _, a := range farNumbers() {
-		for _, b := range farNumbers() {
+	for _, a := range arrivals.Far() {
+		for _, b := range arrivals.Far() {
 			stands(t, event.At(a, b), event.Event{Kind: 2, X: a, Y: b})
 			stands(t, event.Number(a, uint64(b)), event.Event{Kind: a, N: uint64(b)})
 		}
@@ -84,31 +85,31 @@ func TestAtAndNumber(t *testing.T) {
 func TestPlainByHand(t *testing.T) {
 	for kind, want := range map[int]event.Event{0: {}, 2: {X: 201, Y: 202}, 3: {N: 203}, 4: {N: 203}, 5: {N: 203}, 6: {}, 7: {}, -1: {}, 257: {}, 1<<32 + 2: {}, math.MinInt: {}, math.MaxInt: {}} {
 		want.Kind = kind
-		stands(t, fullEvent(kind).Plain(), want)
+		stands(t, arrivals.Full(kind).Plain(), want)
 	}
-	full := fullOp(0)
+	full := arrivals.FullOp(0)
 	for kind, want := range map[int]scene.Op{
 		1: {Id: 101, Parent: 102, Place: 103}, 2: {Id: 101}, 3: {Id: 101, Parent: 102, Place: 103}, 4: {Id: 101, Map: full.Map}, 5: {Id: 101, On: true, Clip: full.Clip},
 		6: {Id: 101, N: 114}, 7: {Id: 101, Look: full.Look}, 8: {Id: 101, On: true}, 0: {}, 9: {}, -1: {}, 257: {}, 1<<32 + 7: {}, math.MinInt: {}, math.MaxInt: {},
 	} {
 		want.Kind = kind
-		stands(t, event.Of(fullOp(kind)).Plain(), event.Event{Kind: 1, Ops: []scene.Op{want}})
+		stands(t, event.Of(arrivals.FullOp(kind)).Plain(), event.Event{Kind: 1, Ops: []scene.Op{want}})
 	}
 }
 
 // P19.1: Plain of events of all kinds, in which everything is set, or any part of it.
 func TestPlain(t *testing.T) {
 	l := []event.Event{{}}
-	for _, kind := range append(farNumbers(), 3, 4, 5, 6) {
-		l = append(l, fullEvent(kind), event.Event{Kind: kind})
+	for _, kind := range append(arrivals.Far(), 3, 4, 5, 6) {
+		l = append(l, arrivals.Full(kind), event.Event{Kind: kind})
 	}
 	next := noise.Numbers(3)
 	for range 4000 {
-		l = append(l, drawnEvent(next))
+		l = append(l, arrivals.Any(next))
 	}
 	changed, kept := 0, 0
 	for _, e := range l {
-		was := copied(e)
+		was := arrivals.Copy(e)
 		p := e.Plain()
 		stands(t, p, plainEvent(e))
 		stands(t, p.Plain(), p)
@@ -126,7 +127,7 @@ func TestPlain(t *testing.T) {
 
 // P19.1: a look that is set stays whole, with what its own kind hasn't, too; of ops of other kinds it goes.
 func TestPlainLooks(t *testing.T) {
-	for _, look := range someLooks() {
+	for _, look := range arrivals.Looks() {
 		for kind := -1; kind < 10; kind++ {
 			o := scene.Op{Kind: kind, Look: look}
 			want := scene.Op{Kind: kind}
@@ -142,7 +143,7 @@ func TestPlainLooks(t *testing.T) {
 func TestPlainOfManyOps(t *testing.T) {
 	e, want := event.Event{Kind: 1, X: 5}, event.Event{Kind: 1}
 	for k := range 3 * api.MaxOps {
-		o := fullOp(k % 12)
+		o := arrivals.FullOp(k % 12)
 		o.Id, o.Parent = k, -k
 		e.Ops, want.Ops = append(e.Ops, o), append(want.Ops, plainOp(o))
 	}
@@ -156,7 +157,7 @@ func TestPlainApplied(t *testing.T) {
 		next := noise.Numbers(seed)
 		s := scenery.Scene(next, 16, 9, 12)
 		for range 60 {
-			p, o := scenery.Op(next, s), drawnOp(next)
+			p, o := scenery.Op(next, s), arrivals.AnyOp(next)
 			o.Kind = p.Kind
 			for _, o := range []scene.Op{o, over(o, p)} {
 				a, b := s.Copy(), s.Copy()
@@ -203,10 +204,10 @@ func TestOfMemory(t *testing.T) {
 	memory(t, func(l []scene.Op) event.Event { return event.Of(l...) })
 	// So it is of a look that an op's kind doesn't name.
 	for kind := -1; kind < 10; kind++ {
-		o := fullOp(kind)
+		o := arrivals.FullOp(kind)
 		e := event.Of(o)
 		spoil(o.Look.Image.Pixels)
-		stands(t, e, event.Event{Kind: 1, Ops: []scene.Op{fullOp(kind)}})
+		stands(t, e, event.Event{Kind: 1, Ops: []scene.Op{arrivals.FullOp(kind)}})
 	}
 }
 

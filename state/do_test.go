@@ -7,6 +7,7 @@ import (
 
 	"mutoscope/affine"
 	"mutoscope/api"
+	"mutoscope/arrivals"
 	"mutoscope/event"
 	"mutoscope/image"
 	"mutoscope/node"
@@ -371,7 +372,7 @@ func TestWalks(t *testing.T) {
 		s, p := made(t, 1+below(next, 14), 1+below(next, 14), 1+below(next, 20))
 		if below(next, 2) == 0 {
 			z := scenery.Scene(next, p.image.W, p.image.H, 2+below(next, 20))
-			f := facts(next, z)
+			f := arrivals.Facts(next, z)
 			s, _ = state.Of(z, f)
 			p = of(z, f)
 		}
@@ -398,7 +399,7 @@ func TestFold(t *testing.T) {
 			q := p.copied()
 			for range n {
 				e := drawn(next, p)
-				l, was, want = append(l, e), append(was, copied(e)), append(want, p.do(e))
+				l, was, want = append(l, e), append(was, arrivals.Copy(e)), append(want, p.do(e))
 			}
 			c := s.Copy()
 			if got := state.Fold(s, l...); !slices.Equal(got, want) || !slices.EqualFunc(l, was, event.Equal) {

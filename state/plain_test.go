@@ -1,16 +1,15 @@
 package state_test
 
 import (
-	"slices"
 	"testing"
 
 	"mutoscope/api"
+	"mutoscope/arrivals"
 	"mutoscope/event"
 	"mutoscope/flat"
 	"mutoscope/image"
 	"mutoscope/raster"
 	"mutoscope/scene"
-	"mutoscope/scenery"
 	"mutoscope/state"
 )
 
@@ -176,7 +175,7 @@ func stands(t *testing.T, s *state.State, p *plain) {
 // done is the answer of Do, after all was held against the chapter's words.
 func done(t *testing.T, s *state.State, p *plain, e event.Event) state.Answer {
 	t.Helper()
-	was := copied(e)
+	was := arrivals.Copy(e)
 	a, want := s.Do(e), p.do(e)
 	if a != want {
 		t.Fatalf("Do %v: %v, not %v", e, a, want)
@@ -191,89 +190,11 @@ func done(t *testing.T, s *state.State, p *plain, e event.Event) state.Answer {
 	return a
 }
 
-// copied is e with ops and pixels of its own.
-func copied(e event.Event) event.Event {
-	e.Ops = slices.Clone(e.Ops)
-	for k := range e.Ops {
-		m := &e.Ops[k].Look.Image
-		m.Pixels = slices.Clone(m.Pixels)
-	}
-	return e
-}
-
 // drawn is an event without a pattern: most are done, some aren't, and some aren't plain.
 func drawn(next func() uint64, p *plain) event.Event {
-	e := event.Event{Kind: 1 + below(next, 6)}
-	switch e.Kind {
-	case event.Change:
-		for range below(next, 4) {
-			e.Ops = append(e.Ops, scenery.Op(next, p.scene))
-		}
-	case event.Press:
-		e.X, e.Y = below(next, p.image.W+2)-1, below(next, p.image.H+2)-1
-	case event.Key:
-		e.N = next() % 280
-	case event.Clock:
-		e.N = p.facts.Time + next()%7 - 2
-	case event.Draw:
-		e.N = next() >> (next() % 64)
-	}
-	switch below(next, 20) {
-	case 0:
-		e.Kind = below(next, 20) - 9
-	case 1, 2, 3:
-		return full(next, e)
-	}
-	return e
-}
-
-// full is e with all set that its Kind, or those of its ops, don't have.
-func full(next func() uint64, e event.Event) event.Event {
-	plain := e.Plain()
-	for range 2 {
-		e.Ops = append(e.Ops, scene.Op{Kind: scene.SetHidden, On: true})
-	}
-	e.X, e.Y, e.N = int(next()), int(next()), next()
-	switch plain.Kind {
-	case event.Change:
-		e.Ops = plain.Ops
-		for k := range e.Ops {
-			e.Ops[k] = fullOp(e.Ops[k])
-		}
-	case event.Press:
-		e.X, e.Y = plain.X, plain.Y
-	case event.Key, event.Clock, event.Draw:
-		e.N = plain.N
-	}
-	return e
-}
-
-// fullOp is o with a look and a number that its Kind may not have.
-func fullOp(o scene.Op) scene.Op {
-	if o.Kind != scene.SetLook {
-		o.Look.Kind, o.Look.W = 9, -1
-	}
-	if o.Kind != scene.SetOpacity {
-		o.N = 999
-	}
-	return o
+	return arrivals.On(next, p.scene, p.facts.Time)
 }
 
 func below(next func() uint64, n int) int {
 	return int(next() % uint64(n))
-}
-
-// facts is some that a state of z may have, of numbers of any length.
-func facts(next func() uint64, z *scene.Scene) state.Facts {
-	w, h, _ := z.Size()
-	f := state.Facts{
-		X: below(next, w), Y: below(next, h), Clean: below(next, 2) == 0, Keys: uint32(next()), Sum: uint32(next()),
-		Time: next() >> (next() % 64), Drawn: next() >> (next() % 64), Draws: int(next() >> (2 + next()%60)), Frames: int(next() >> (2 + next()%60)),
-	}
-	for id := range z.Walk() {
-		if !f.Focused && below(next, 3) == 0 {
-			f.Focus, f.Focused = id, true
-		}
-	}
-	return f
 }

@@ -8,6 +8,7 @@ import (
 
 	"mutoscope/affine"
 	"mutoscope/api"
+	"mutoscope/arrivals"
 	"mutoscope/event"
 	"mutoscope/image"
 	"mutoscope/node"
@@ -121,7 +122,7 @@ func TestOf(t *testing.T) {
 		next := noise.Numbers(seed)
 		w, h := 1+below(next, 12), 1+below(next, 12)
 		z := scenery.Scene(next, w, h, 1+below(next, 14))
-		was, f := z.Copy(), facts(next, z)
+		was, f := z.Copy(), arrivals.Facts(next, z)
 		s, e := state.Of(z, f)
 		if e != api.OK {
 			t.Fatalf("Of %v: %d", f, e)
